@@ -46,20 +46,17 @@ func orderFor(n int) int {
 	return order
 }
 
-// cacheFor so many words: the name of the least cache, of those that there always are, whose objects have them.
+// cacheFor so many words: a name of the least cache, of those that are asked by number, whose objects have them; without one, no cache's name.
+// A name tells no size: in a system that New did not begin its cache may have objects of other sizes.
 func cacheFor(s api.System, n int) string {
-	for _, size := range sizes {
-		name := nameOf(size)
-		if size >= n && !isTooSmall(s, name, n) {
-			return name
+	least, words := "", 0
+	for _, c := range s.Caches {
+		name, ok := askedName(c)
+		if ok && c.Size >= n && (least == "" || c.Size < words) {
+			least, words = name, c.Size
 		}
 	}
-	return "" // no cache's name
-}
-
-// isTooSmall: is there a cache with that name, but with objects of fewer words? It can be so only in a system that New did not begin.
-func isTooSmall(s api.System, name string, n int) bool {
-	return slices.ContainsFunc(s.Caches, func(c api.Cache) bool { return c.Size < n && slices.Contains(c.Names, name) })
+	return least
 }
 
 // askedAt: what was asked by number at an address, in a system that may be; false: nothing was.

